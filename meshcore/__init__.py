@@ -1,0 +1,1 @@
+"""Exact geometry of triangulations, polygons and hulls."""

@@ -1,0 +1,36 @@
+"""The interface: each function is defined in its file, with its arguments by their names."""
+
+import importlib
+import inspect
+
+from tests.helpers import Checked
+
+INTERFACE = {
+    "points": ("point(x, y, *, w=1)", "compare(a, b)", "distance2(a, b)", "ranked(points)"),
+    "turns": ("turn(a, b, c)", "area2(a, b, c)", "between(a, b, p)"),
+    "segments": ("meeting(a, b, c, d)", "crosses(a, b, c, d)"),
+    "circles": ("circle_side(a, b, c, d)", "circumcenter(a, b, c)", "radius2(a, b, c)"),
+    "hulls": ("hull(points)", "locate_in_hull(points, p)", "shows_in_hull(points, p, value)"),
+    "polygons": ("polygon_flaw(value)", "area(polygon)", "side(polygon, p)", "lattice_counts(polygon)"),
+    "triangulations": (
+        "triangulation_flaw(points, value)", "triangulate(points)", "flippable(points, triangles)",
+        "flip(points, triangles, edge)", "all_triangulations(points)", "flip_path(points, one, other)",
+    ),
+    "delaunay": (
+        "illegal_edges(points, triangles)", "delaunay(points)", "angle_row(points, triangles)",
+        "roughness(points, triangles, heights)", "largest_cap(points, triangles)",
+    ),
+    "signs": ("signs_of(points)", "contradiction(many, signs)", "realized(many, signs)"),
+}
+
+
+class Interface(Checked):
+
+    def test_functions(self):
+        for file, rows in INTERFACE.items():
+            module = importlib.import_module("meshcore." + file)
+            for row in rows:
+                name = row.partition("(")[0]
+                call = getattr(module, name)
+                self.assertEqual(call.__module__, "meshcore." + file)
+                self.assertEqual(name + str(inspect.signature(call)), row)
