@@ -165,6 +165,7 @@ class Measures(Checked):
     def test_largest_cap(self):
         self.assertEqual(largest_cap(KITE, ONE), (25, 2))
         self.assertEqual(largest_cap(plain((0, 0), (2, 0), (0, 1)), ((0, 1, 2),)), (5, 4))
+        self.assertEqual(largest_cap(((0, 0, 1), (1, 0, 2), (0, 1, 2)), ((0, 1, 2),)), (1, 8))
         self.assertEqual(largest_cap(plain((0, 0), (4, 0), (1, 1)), ((0, 1, 2),)), (4, 1))
         self.assertEqual(largest_cap(plain((0, 0), (2, 0), (1, 2)), ((0, 1, 2),)), (25, 16))
         rows = seeded(23)

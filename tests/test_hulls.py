@@ -149,6 +149,12 @@ class Hulls(Checked):
             ("in", (3,), ((True, 1),)),
             ("in", (3,), ((1, True),)),
             ("in", (3,), (1,)),
+            ("in", (3,), ((1, 1, 7),)),
+            ("in", (3,), ((1,),)),
+            ("in", (3,), ((),)),
+            ("in", (3,), ((1, 0),)),
+            ("in", (3,), ((1, 1), (0, 1))),
+            ("in", (0, 3), ((1, 1),)),
             ("in", (3,), ((1, 1),), ()),
             ["in", (3,), ((1, 1),)],
             ("out", (3,), ((1, 1),)),
@@ -164,7 +170,14 @@ class Hulls(Checked):
         self.assertIs(shows_in_hull(row, (1, 0, 1), ("in", (0, 2), ((1, 2), (1, 2)))), True)
         # the sum of the weights is not 1 although the sum of the points is right
         self.assertIs(shows_in_hull(row, (2, 0, 1), ("in", (1,), ((2, 1),))), False)
-        self.assertIs(shows_in_hull(row, (1, 0, 1), ("in", (1, 2), ((2, 1), (-1, 2)))), False)
+        self.assertIs(shows_in_hull(row, (0, 0, 1), ("in", (1, 2), ((2, 1), (-1, 1)))), False)
+        self.assertIs(shows_in_hull(row, (0, 0, 1), ("in", (1, 2), ((2, 1), (1, -1)))), False)
+        # more weights than indexes, and fewer
+        self.assertIs(shows_in_hull(row, (1, 0, 2), ("in", (1,), ((1, 2), (1, 2)))), False)
+        self.assertIs(shows_in_hull(row, (0, 0, 1), ("in", (0, 1), ((1, 1),))), False)
+        # one coordinate alone is right
+        self.assertIs(shows_in_hull(TRIANGLE, (0, 1, 1), ("in", (3,), ((1, 1),))), False)
+        self.assertIs(shows_in_hull(TRIANGLE, (1, 0, 1), ("in", (3,), ((1, 1),))), False)
 
     def test_shows_barriers(self):
         p = (5, 0, 1)
