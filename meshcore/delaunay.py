@@ -5,8 +5,8 @@ from meshcore.errors import BadHeights
 from meshcore.exact import by_value, is_less, is_whole, plus, ratio, times
 from meshcore.points import gap2
 from meshcore.triangulations import check_mesh, check_mesh_points, first_mesh, inner_edges, settled
-from meshcore.triangulations import sides_with_rest, turn_table
-from meshcore.turns import determinant
+from meshcore.triangulations import sides_with_rest
+from meshcore.turns import determinant, turn_table
 
 
 def is_illegal(points, edge, rest):

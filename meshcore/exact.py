@@ -28,12 +28,38 @@ def is_ascending(value, many):
     return True
 
 
+def are_indexes(value, many):
+    """Whether a value is a tuple of different indexes below many, in any order."""
+    if not isinstance(value, tuple):
+        return False
+    for item in value:
+        if not is_whole(item):
+            return False
+    return is_ascending(tuple(sorted(value)), many)
+
+
 def is_ratio(value):
     if not isinstance(value, tuple) or len(value) != 2:
         return False
     if not is_whole(value[0]) or not is_whole(value[1]):
         return False
     return value[1] > 0 and gcd(value[0], value[1]) == 1
+
+
+def common_divisor(numbers):
+    """The greatest common divisor of all numbers, 0 if all of them are 0."""
+    found = 0
+    for number in numbers:
+        found = gcd(found, number)
+    return found
+
+
+def reduced(numbers):
+    """The numbers without their common divisor, as a list."""
+    common = common_divisor(numbers)
+    if common < 2:
+        return list(numbers)
+    return [number // common for number in numbers]
 
 
 def ratio(upper, lower):

@@ -1,7 +1,7 @@
 """Hulls of point lists, with a certificate for each point inside or outside."""
 
 from meshcore.exact import is_ascending, is_less, is_ratio, is_whole, plus, ratio, times
-from meshcore.points import check_each, check_list, ranking
+from meshcore.points import check_each, check_list, ranking, way
 from meshcore.turns import determinant, on_segment, orient
 
 
@@ -78,11 +78,6 @@ def mixture(group, weights):
     return ("in", tuple([row[0] for row in rows]), tuple([row[1] for row in rows]))
 
 
-def way(a, b):
-    """The direction from a to b, in integers."""
-    return (b[0] * a[2] - a[0] * b[2], b[1] * a[2] - a[1] * b[2])
-
-
 def barrier_along(points, p, u, v):
     """The barrier with the direction u, v, None if p is not beyond all points there."""
     most = None
@@ -110,14 +105,24 @@ def barrier(points, corners, p):
     return None
 
 
-def locate(points, p):
-    """What locate_in_hull tells, for points of any size."""
-    corners = hull_indexes(points)
+def mixture_of(points, corners, p):
+    """A mixture of corners of the hull, None for a point outside."""
     for group in fans(corners):
         weights = group_weights([points[k] for k in group], p)
         if weights is not None:
             return mixture(group, weights)
-    return barrier(points, corners, p)
+    return None
+
+
+def is_in_hull(points, p):
+    """Whether p lies in the hull, for points of any size."""
+    return mixture_of(points, hull_indexes(points), p) is not None
+
+
+def locate(points, p):
+    """What locate_in_hull tells, for points of any size."""
+    corners = hull_indexes(points)
+    return mixture_of(points, corners, p) or barrier(points, corners, p)
 
 
 def locate_in_hull(points, p):

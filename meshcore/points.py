@@ -3,7 +3,7 @@
 from math import gcd, lcm
 
 from meshcore.errors import BadPoint, BadPoints
-from meshcore.exact import is_whole, ratio, sign
+from meshcore.exact import common_divisor, is_whole, ratio, sign
 
 # 10 ** 12, for the numbers of points that are arguments
 LIMIT = 1000000000000
@@ -18,13 +18,23 @@ def lowest(x, y, w):
     return (x // common, y // common, w // common)
 
 
-def is_point(value):
-    if not isinstance(value, tuple) or len(value) != 3:
+def is_lowest(value, many):
+    """Whether a value is a tuple of so many integers without a common divisor, the last one above 0."""
+    if not isinstance(value, tuple) or len(value) != many:
         return False
     for number in value:
-        if not is_whole(number) or abs(number) > LIMIT:
+        if not is_whole(number):
             return False
-    return value[2] > 0 and gcd(gcd(value[0], value[1]), value[2]) == 1
+    return value[-1] > 0 and common_divisor(value) == 1
+
+
+def is_within(numbers):
+    return max([abs(number) for number in numbers]) <= LIMIT
+
+
+def is_point(value):
+    """Whether a value is a point that may be an argument."""
+    return is_lowest(value, 3) and is_within(value)
 
 
 def check_each(values):
@@ -51,23 +61,30 @@ def order(a, b):
     return sign(a[1] * b[2] - b[1] * a[2])
 
 
+def way(a, b):
+    """The way from a to b in integers: its coordinates, times a number above 0."""
+    return (b[0] * a[2] - a[0] * b[2], b[1] * a[2] - a[1] * b[2])
+
+
 def gap2(a, b):
     """What distance2 tells, for points of any size."""
-    x = b[0] * a[2] - a[0] * b[2]
-    y = b[1] * a[2] - a[1] * b[2]
+    x, y = way(a, b)
     w = a[2] * b[2]
     return ratio(x * x + y * y, w * w)
 
 
-def ranking(points):
-    """The indexes of points of any size, in the order of the points."""
+def on_grid(points):
+    """A number above 0, and the coordinates of all points times this number: integers."""
     common = 1
     for item in points:
         common = lcm(common, item[2])
-    rows = []
-    for k, (x, y, w) in enumerate(points):
-        rows.append((x * (common // w), y * (common // w), k))
-    return [row[2] for row in sorted(rows)]
+    return (common, [(x * (common // w), y * (common // w)) for x, y, w in points])
+
+
+def ranking(points):
+    """The indexes of points of any size, in the order of the points."""
+    _, rows = on_grid(points)
+    return [row[2] for row in sorted([(x, y, k) for k, (x, y) in enumerate(rows)])]
 
 
 def point(x, y, *, w=1):

@@ -7,7 +7,8 @@ from meshcore.errors import BadEdge, Flat, NotTriangulation, TooFew, TooMany
 from meshcore.exact import is_ascending, plus
 from meshcore.hulls import hull_indexes
 from meshcore.points import check_list
-from meshcore.turns import doubled, in_all_orders, orient, triple_turns
+from meshcore.turns import doubled, orient, turn_table
+from meshcore.walks import reached
 
 MOST_POINTS = 20
 MOST_MESHES = 2000
@@ -28,11 +29,6 @@ def check_mesh_points(points):
         raise TooMany(MOST_POINTS)
     if is_flat(points):
         raise Flat()
-
-
-def turn_table(points):
-    """The turns of all triples of indexes in any order."""
-    return in_all_orders(len(points), triple_turns(points))
 
 
 def sides_with_rest(triangle):
@@ -212,6 +208,10 @@ def after_flip(triangles, edge, rest):
     return tuple(sorted(kept + [triangle_of(rest, edge[0]), triangle_of(rest, edge[1])]))
 
 
+def all_flipped(table, triangles):
+    return [after_flip(triangles, edge, rest) for edge, rest in edges_to_flip(table, triangles)]
+
+
 def flippable(points, triangles):
     """The edges of a triangulation that can be flipped."""
     table = check_mesh(points, triangles)
@@ -233,20 +233,7 @@ def all_triangulations(points):
     """All triangulations of points."""
     check_mesh_points(points)
     table = turn_table(points)
-    found = [first_mesh(table, len(points))]
-    seen = {found[0]: True}
-    done = 0
-    while done < len(found):
-        triangles = found[done]
-        done += 1
-        for edge, rest in edges_to_flip(table, triangles):
-            new = after_flip(triangles, edge, rest)
-            if new not in seen:
-                seen[new] = True
-                found.append(new)
-        if len(found) > MOST_MESHES:
-            raise TooMany(MOST_MESHES)
-    return tuple(sorted(found))
+    return reached(first_mesh(table, len(points)), lambda triangles: all_flipped(table, triangles), MOST_MESHES)
 
 
 def is_unsettled(points, edge, rest):

@@ -2,6 +2,7 @@
 
 from itertools import combinations
 
+from meshcore.errors import NotGeneral
 from meshcore.exact import ratio, sign
 from meshcore.points import check_each, order
 
@@ -50,6 +51,16 @@ def in_all_orders(many, turns):
         for row in ((i, k, j), (k, j, i), (j, i, k)):
             table[row] = -one
     return table
+
+
+def turn_table(points):
+    """The turns of all triples of indexes in any order."""
+    return in_all_orders(len(points), triple_turns(points))
+
+
+def check_general(points):
+    if 0 in triple_turns(points):
+        raise NotGeneral()
 
 
 def turn(a, b, c):

@@ -3,9 +3,10 @@
 import random
 import unittest
 from fractions import Fraction
+from itertools import combinations
 from math import lcm
 
-from meshcore.errors import BadPoint, BadPoints
+from meshcore.errors import BadEdges, BadPoint, BadPoints, NotGeneral, TooFew, TooMany
 from meshcore.points import point
 
 LIMIT = 10 ** 12
@@ -91,6 +92,34 @@ def some_mesh_points(rows, many, size=4, most=1):
             return found
 
 
+def is_general(points):
+    return all(cross(*[at(p) for p in three]) != 0 for three in combinations(points, 3))
+
+
+def some_general(rows, many, size=9, most=1):
+    """Points of which no three lie on a line."""
+    found = []
+    while len(found) < many:
+        p = some_point(rows, size, 1, most)
+        if p not in found and is_general(found + [p]):
+            found.append(p)
+    return tuple(found)
+
+
+def on_curve(many):
+    """Points in convex position."""
+    return plain(*[(k, k * k) for k in range(many)])
+
+
+def pairs_of(many):
+    return list(combinations(range(many), 2))
+
+
+# For points with small integer coordinates these are directions of every kind: all that
+# lie at right angles to a way between two of them, and some between any two such.
+GRID = [(u, v) for u in range(-18, 19) for v in range(-18, 19) if (u, v) != (0, 0)]
+
+
 def clipped(polygon, a, b):
     """The part of a convex polygon on the left of the line from a to b."""
     found = []
@@ -167,3 +196,32 @@ class Checked(unittest.TestCase):
         for value in BAD_POINTS + (deep(50),):
             with self.subTest(value=value):
                 self.raised(BadPoint, call, *before, value, *after)
+
+    def bad_few(self, call, *rest):
+        """The points of promises [19] to [22]: all their errors, ahead of those of what follows."""
+        self.bad_points(call, (), rest)
+        for points in (on_curve(1), ((5, 7, 3),)):
+            self.raised(TooFew, call, points, *rest)
+        flat = plain(*[(k, 0) for k in range(13)])
+        for points in (on_curve(13), on_curve(40), flat):
+            self.raised(TooMany, call, points, *rest, most=12)
+        for points in (flat[:12], flat[:3], on_curve(11) + ((-1, -1, 1),), on_curve(3) + ((1, 2, 2),)):
+            self.raised(NotGeneral, call, points, *rest)
+
+    def bad_edges(self, call, *rest):
+        """An edge set behind four points: every kind of wrong one, and the index told."""
+        points = on_curve(4)
+        for value in (None, True, 0, 7, "", "ab", [], {}, [(0, 1)], {(0, 1): True}):
+            with self.subTest(value=value):
+                self.raised(BadEdges, call, points, value, *rest, index=None)
+        wrong = [value for value in STRANGE if value != (1, 2)] + [
+            (0, 0), (1, 0), (3, 1), (0, 4), (-1, 2), (0, 1, 2), [0, 1], (False, 2), (0, True), "01",
+            (0, 10 ** 30), ((0, 1),), (0, 1), (0, 2), deep(50),
+        ]
+        for value in wrong:
+            for behind in ((), ((0, 3), 5), ((0, 1),)):
+                with self.subTest(value=value):
+                    self.raised(BadEdges, call, points, ((0, 1), (0, 2), value) + behind, *rest, index=2)
+        self.raised(BadEdges, call, points, ((0, 4),), *rest, index=0)
+        self.raised(BadEdges, call, points, ((),), *rest, index=0)
+        self.raised(BadEdges, call, points[:2], ((0, 1), (0, 2)), *rest, index=1)

@@ -2,7 +2,8 @@
 
 from fractions import Fraction
 
-from meshcore.exact import by_value, is_ascending, is_less, is_ratio, is_whole, plus, ratio, sign, times
+from meshcore.exact import are_indexes, by_value, common_divisor, is_ascending, is_less, is_ratio, is_whole
+from meshcore.exact import plus, ratio, reduced, sign, times
 from tests.helpers import Checked, deep, rat, seeded
 
 
@@ -27,6 +28,18 @@ class Exact(Checked):
             self.assertIs(is_ascending(value, 5), True)
         for value in ((5,), (-1,), (1, 1), (1, 0), (0, 5), (False,), (0, True), [0, 1], "01", None, (None,), (0, "1")):
             self.assertIs(is_ascending(value, 5), False)
+
+    def test_are_indexes(self):
+        for value in ((), (0,), (4, 0), (3, 1, 2), (4, 3, 2, 1, 0)):
+            self.assertIs(are_indexes(value, 5), True)
+        for value in ((5,), (-1,), (1, 1), (2, 0, 2), (0, 5), (False,), (2, True), [1, 0], "10", None, (None, 1),
+                      (1, "0"), ((1,),), deep(5000), {1: 0}):
+            self.assertIs(are_indexes(value, 5), False)
+
+    def test_common_divisors(self):
+        self.assertEqual([common_divisor(row) for row in ((), (0, 0), (0, -4), (6, -9, 0), (6, 10, 15))], [0, 0, 4, 3, 1])
+        self.assertEqual(reduced((6, -9, 0)), [2, -3, 0])
+        self.assertEqual([reduced(()), reduced([0, 0]), reduced((-4,)), reduced((5, 3))], [[], [0, 0], [-1], [5, 3]])
 
     def test_sums(self):
         self.assertEqual(ratio(4, -6), (-2, 3))

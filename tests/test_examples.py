@@ -1,11 +1,16 @@
 """The examples of the interface, word by word."""
 
+from meshcore.centers import depth, shows_common
 from meshcore.circles import circle_side, circumcenter, radius2
 from meshcore.delaunay import angle_row, delaunay, illegal_edges, largest_cap
+from meshcore.duality import above, dual_of_line, dual_of_point, level_corners
+from meshcore.edgecounts import crossing_count, halving_pairs, left_counts, separable
 from meshcore.errors import TooFew
 from meshcore.hulls import hull, locate_in_hull
+from meshcore.pointed import crossing_edges, unpointed
 from meshcore.points import compare, distance2, point, ranked
 from meshcore.polygons import area, lattice_counts, polygon_flaw, side
+from meshcore.pseudo import all_pseudo, partner, pseudo_triangles
 from meshcore.segments import crosses, meeting
 from meshcore.signs import contradiction, realized, signs_of
 from meshcore.triangulations import all_triangulations, flip, flippable, triangulation_flaw
@@ -63,3 +68,32 @@ class Examples(Checked):
     def test_signs_of_too_few(self):
         with self.assertRaises(TooFew):
             signs_of(((0, 0, 1), (1, 0, 1)))
+
+    def test_duality(self):
+        lines = (((0, 1), (0, 1)), ((1, 1), (0, 1)), ((-1, 1), (2, 1)))
+        found = [level_corners(lines, 0), level_corners(lines, 1), dual_of_point((2, 3, 1)),
+                 dual_of_line(((1, 2), (3, 1)))]
+        self.assertEqual(found, [((0, 0, 1), (2, 0, 1)), ((1, 1, 1),), ((2, 1), (-3, 1)), (1, -6, 2)])
+        self.assertEqual(above(lines[1], (0, 1, 1)), 1)
+
+    def test_edgecounts(self):
+        five = ((0, 0, 1), (4, 0, 1), (5, 3, 1), (2, 5, 1), (-1, 3, 1))
+        found = [left_counts(five), crossing_count(five), halving_pairs(five[:4]), separable(five[:3], 1)]
+        self.assertEqual(found, [(5, 5, 5, 5), 5, ((0, 2), (1, 3)), ((0,), (1,), (2,))])
+
+    def test_centers(self):
+        square = ((0, 0, 1), (2, 0, 1), (2, 2, 1), (0, 2, 1))
+        found = [depth(square, (1, 1, 1))[0], depth(square, (5, 1, 1))[0],
+                 shows_common(square, (((0, 2), (1, 3)), (1, 1, 1)))]
+        self.assertEqual(found, [2, 0, True])
+
+    def test_pointed(self):
+        points = ((0, 0, 1), (6, 0, 1), (1, 5, 1), (2, 2, 1))
+        found = [unpointed(points, ((0, 3), (1, 3), (2, 3))), crossing_edges(points, ((0, 1), (2, 3)))]
+        self.assertEqual(found, [(3,), None])
+
+    def test_pseudo(self):
+        points = ((0, 0, 1), (6, 0, 1), (1, 5, 1), (2, 2, 1))
+        edges = ((0, 1), (0, 2), (0, 3), (1, 2), (1, 3))
+        found = [pseudo_triangles(points, edges), partner(points, edges, (0, 3)), len(all_pseudo(points))]
+        self.assertEqual(found, [((0, 1, 3), (0, 3, 1, 2)), (2, 3), 3])

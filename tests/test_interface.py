@@ -21,6 +21,19 @@ INTERFACE = {
         "roughness(points, triangles, heights)", "largest_cap(points, triangles)",
     ),
     "signs": ("signs_of(points)", "contradiction(many, signs)", "realized(many, signs)"),
+    "duality": ("above(line, p)", "dual_of_point(p)", "dual_of_line(line)", "level_corners(lines, k)"),
+    "edgecounts": (
+        "left_counts(points)", "crossing_count(points)", "halving_pairs(points)", "separable(points, k)",
+        "halving_both(red, blue)",
+    ),
+    "centers": (
+        "radon(points)", "tverberg(points)", "shows_common(points, value)", "depth(points, p)", "center(points)",
+    ),
+    "pointed": ("crossing_edges(points, edges)", "unpointed(points, edges)", "is_pointed(points, edges)"),
+    "pseudo": (
+        "is_pseudo(points, edges)", "completed(points, edges)", "pseudo_triangles(points, edges)",
+        "partner(points, edges, edge)", "all_pseudo(points)",
+    ),
 }
 
 

@@ -31,7 +31,7 @@ NODES = (
     "Module FunctionDef ClassDef Return Assign AugAssign For While If Raise Expr Pass Break Continue Import "
     "ImportFrom alias arguments arg keyword Name Load Store Constant Attribute Subscript Slice Tuple List Dict "
     "Call BinOp UnaryOp BoolOp Compare IfExp ListComp DictComp comprehension JoinedStr FormattedValue "
-    "Add Sub Mult FloorDiv Mod Pow USub Not And Or Eq NotEq Lt LtE Gt GtE Is IsNot In NotIn"
+    "Add Sub Mult FloorDiv Mod Pow USub Not And Or Eq NotEq Lt LtE Gt GtE Is IsNot In NotIn Lambda"
 ).split()
 
 
