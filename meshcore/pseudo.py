@@ -99,14 +99,13 @@ def face_from(table, edges, i, j):
 def pseudo_triangles(points, edges):
     """The bounded faces of a pseudo-triangulation, each counterclockwise from its least corner."""
     table = check_pseudo(points, edges)
-    found = {}
-    for edge in edges:
-        for i, j in (edge, edge[::-1]):
-            face = face_from(table, edges, i, j)
-            # from its least corner each face is found once; only the outer one is clockwise
-            if i == min(face) and doubled_area([points[k] for k in face])[0] > 0:
-                found[face] = True
-    return tuple(sorted(list(found)))
+    found = []
+    for i, j in edges:
+        face = face_from(table, edges, i, j)
+        # each face is found once like this, from its least corner; only the outer one is clockwise
+        if i == min(face) and doubled_area([points[k] for k in face])[0] > 0:
+            found.append(face)
+    return tuple(sorted(found))
 
 
 def is_hull_edge(table, many, edge):

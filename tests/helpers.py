@@ -224,4 +224,6 @@ class Checked(unittest.TestCase):
                     self.raised(BadEdges, call, points, ((0, 1), (0, 2), value) + behind, *rest, index=2)
         self.raised(BadEdges, call, points, ((0, 4),), *rest, index=0)
         self.raised(BadEdges, call, points, ((),), *rest, index=0)
+        self.raised(BadEdges, call, points, ((0, 2), (0, 1)), *rest, index=1)
+        self.raised(BadEdges, call, points, ((0, 2), (0, 2), 5), *rest, index=1)
         self.raised(BadEdges, call, points[:2], ((0, 1), (0, 2)), *rest, index=1)

@@ -2,6 +2,8 @@
 
 from meshcore.centers import depth, shows_common
 from meshcore.circles import circle_side, circumcenter, radius2
+from meshcore.circuits import dependency, radon_parts
+from meshcore.covers import all_covers, flips, placing
 from meshcore.delaunay import angle_row, delaunay, illegal_edges, largest_cap
 from meshcore.duality import above, dual_of_line, dual_of_point, level_corners
 from meshcore.edgecounts import crossing_count, halving_pairs, left_counts, separable
@@ -11,6 +13,8 @@ from meshcore.pointed import crossing_edges, unpointed
 from meshcore.points import compare, distance2, point, ranked
 from meshcore.polygons import area, lattice_counts, polygon_flaw, side
 from meshcore.pseudo import all_pseudo, partner, pseudo_triangles
+from meshcore.regular import folds, regularity, shares
+from meshcore.rigidity import laman_flaw, opening
 from meshcore.segments import crosses, meeting
 from meshcore.signs import contradiction, realized, signs_of
 from meshcore.triangulations import all_triangulations, flip, flippable, triangulation_flaw
@@ -97,3 +101,25 @@ class Examples(Checked):
         edges = ((0, 1), (0, 2), (0, 3), (1, 2), (1, 3))
         found = [pseudo_triangles(points, edges), partner(points, edges, (0, 3)), len(all_pseudo(points))]
         self.assertEqual(found, [((0, 1, 3), (0, 3, 1, 2)), (2, 3), 3])
+
+    def test_rigidity(self):
+        triangle = ((0, 0, 1), (4, 0, 1), (0, 3, 1))
+        found = [laman_flaw(triangle, ((0, 1), (0, 2))), opening(triangle, ((0, 1), (0, 2), (1, 2)), (0, 1))]
+        self.assertEqual(found, [('count',), (((0, 1), (0, 1)), ((4, 1), (0, 1)), ((4, 1), (0, 1)))])
+
+    def test_circuits(self):
+        square = ((0, 0, 1), (3, 0, 1), (3, 2, 1), (0, 2, 1))
+        found = [dependency(square, (0, 1, 2, 3)), radon_parts(square, (0, 1, 2, 3))]
+        self.assertEqual(found, [(1, -1, 1, -1), ((0, 2), (1, 3), (3, 2, 2))])
+
+    def test_covers(self):
+        body = ((0, 0, 0, 1), (4, 0, 0, 1), (0, 4, 0, 1), (0, 0, 4, 1), (1, 1, 1, 1))
+        found = [placing(body), flips(body, placing(body)), all_covers(body)[1]]
+        told = [((0, 1, 2, 3),), ((0, 1, 2, 3, 4),), ((0, 1, 2, 4), (0, 1, 3, 4), (0, 2, 3, 4), (1, 2, 3, 4))]
+        self.assertEqual(found, told)
+
+    def test_regular(self):
+        square = ((0, 0, 1), (3, 0, 1), (3, 2, 1), (0, 2, 1))
+        one = ((0, 1, 2), (0, 2, 3))
+        found = [shares(square, one), folds(square, one), regularity(square, one)[0]]
+        self.assertEqual(found, [((12, 1), (6, 1), (12, 1), (6, 1)), (((0, 1, 2, 3), (-1, 1, -1, 1)),), 'heights'])

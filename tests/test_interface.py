@@ -34,6 +34,20 @@ INTERFACE = {
         "is_pseudo(points, edges)", "completed(points, edges)", "pseudo_triangles(points, edges)",
         "partner(points, edges, edge)", "all_pseudo(points)",
     ),
+    "rigidity": (
+        "stress(points, edges)", "shows_stress(points, edges, value)", "laman_flaw(points, edges)",
+        "opening(points, edges, edge)",
+    ),
+    "configs": ("orientation(config, indexes)", "content(config, indexes)"),
+    "circuits": ("dependency(config, circuit)", "radon_parts(config, circuit)"),
+    "covers": (
+        "cover_flaw(config, value)", "placing(config)", "flips(config, cover)", "flipped(config, cover, circuit)",
+        "all_covers(config)",
+    ),
+    "regular": (
+        "shares(config, cover)", "folds(config, cover)", "regularity(config, cover)",
+        "shows_regularity(config, cover, value)",
+    ),
 }
 
 

@@ -31,7 +31,7 @@ NODES = (
     "Module FunctionDef ClassDef Return Assign AugAssign For While If Raise Expr Pass Break Continue Import "
     "ImportFrom alias arguments arg keyword Name Load Store Constant Attribute Subscript Slice Tuple List Dict "
     "Call BinOp UnaryOp BoolOp Compare IfExp ListComp DictComp comprehension JoinedStr FormattedValue "
-    "Add Sub Mult FloorDiv Mod Pow USub Not And Or Eq NotEq Lt LtE Gt GtE Is IsNot In NotIn Lambda"
+    "Add Sub Mult FloorDiv Mod Pow USub Not And Or Eq NotEq Lt LtE Gt GtE Is IsNot In NotIn Lambda Starred"
 ).split()
 
 
@@ -192,6 +192,24 @@ class Language(unittest.TestCase):
                 if isinstance(node, ast.Call) and isinstance(node.func, ast.Name):
                     if node.func.id in ("zip", "enumerate", "reversed", "range"):
                         self.assertIn(node, spots, (path, node.lineno))
+
+    def test_stars(self):
+        calls = [node for _, node in nodes(ast.Call) if isinstance(node.func, ast.Name) and node.func.id == "zip"]
+        allowed = [one for node in calls for one in node.args]
+        for path, node in nodes(ast.Starred):
+            self.assertIn(ast.dump(node), [ast.dump(one) for one in allowed], (path, node.lineno))
+            self.assertIsInstance(node.value, ast.Name)
+
+    def test_plain_counts_of_combinations(self):
+        for path, tree in trees():
+            for function in [node for node in ast.walk(tree) if isinstance(node, ast.FunctionDef)]:
+                ranges = [node.target.id for node in ast.walk(function) if isinstance(node, ast.For)
+                          and isinstance(node.iter, ast.Call) and ast.unparse(node.iter.func) == "range"]
+                plain = "|".join([r"\d+", r"len\(.*\)", r"len\(.*\) \+ \d+"] + ranges)
+                for node in ast.walk(function):
+                    if isinstance(node, ast.Call) and ast.unparse(node.func) in ("combinations", "permutations"):
+                        for one in node.args[1:]:
+                            self.assertRegex(ast.unparse(one), "^(" + plain + ")$", path)
 
     def test_is(self):
         for path, node in nodes(ast.Compare):
