@@ -71,17 +71,14 @@ def product_of(one, other):
 def start_table(rows, many):
     """The equations for weights of the rows: each column has the sum 0, the weights the sum 1.
 
-    Behind the weights' columns stands one for each equation, with what is missing in it, at
-    last the right side. The last row is the opposite of the sum of all equations."""
+    Behind the weights' columns stands one for each equation, with what is missing in it. That
+    of the last one is the right side, too. The last row is the opposite of the sum of all."""
+    sums = [[row[at] for row in rows] for at in range(many)] + [[1] * len(rows)]
     table = []
-    for at in range(many + 1):
-        unit = [0] * (many + 2)
+    for at, row in enumerate(sums):
+        unit = [0] * (many + 1)
         unit[at] = 1
-        if at < many:
-            table.append([row[at] for row in rows] + unit)
-        else:
-            unit[-1] = 1
-            table.append([1] * len(rows) + unit)
+        table.append(row + unit)
     return table + [[-sum(column) for column in zip(*table)]]
 
 

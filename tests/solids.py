@@ -184,7 +184,8 @@ class Solid(Checked):
         three = BODY[:3]
         for value in (
             None, True, 0, "", "abc", {}, [], (), list(SQUARE), {SQUARE[0]: 1}, SQUARE[:1], SQUARE[:2], on_curve(9),
-            three, three[::-1], BODY[:2], (BODY + ((9, 8, 7, 1), (5, 9, 3, 1), (6, 4, 9, 2), (7, 7, 9, 4))),
+            three, three[::-1], BODY[:2], (5, 6), (SQUARE[0], None), (BODY[0], BODY[0]), on_curve(8) + (5,),
+            BODY + ((9, 8, 7, 1), (5, 9, 3, 1), (6, 4, 9, 2), (7, 7, 9, 4)),
         ):
             with self.subTest(value=value):
                 self.raised(BadConfiguration, call, value, *rest, index=None)
@@ -200,7 +201,8 @@ class Solid(Checked):
         flat = plain((0, 0), (1, 1), (2, 2))
         self.raised(BadConfiguration, call, flat + flat[:1], *rest, index=3)
         even = tuple((k, k * k, 0, 1) for k in range(4))
-        for config in (flat, flat + SQUARE[1:], SQUARE[1:] + flat[::2] + ((3, 4, 2),), even, BODY + even[2:] + even[1:2]):
+        more = SQUARE[1:] + flat[::2] + ((3, 4, 2),)
+        for config in (flat, flat + SQUARE[1:], more, even, BODY + even[2:] + even[1:2]):
             with self.subTest(config=config):
                 self.raised(NotGeneral, call, config, *rest)
 
@@ -209,7 +211,7 @@ class Solid(Checked):
         one = ((0, 1, 2), (0, 2, 3))
         wrong = STRANGE + (
             one[:1], one[1:], one[::-1], one + one[:1], list(one), ((0, 1, 2), (0, 3, 2)), ((0, 1, 2), [0, 2, 3]),
-            ((False, 1, 2), (0, 2, 3)), ((0, 1, 2), (0, 2, 4)), ((0, 1, 2), (0, 1, 3)), ((0, 1, 2), (0, 2, 3), (1, 2, 3)),
+            ((False, 1, 2), (0, 2, 3)), ((0, 1, 2), (0, 2, 4)), ((0, 1, 2), (0, 1, 3)), one + ((1, 2, 3),),
             ((0, 1, 2, 3),), ((0, 1), (1, 2)), (one,), {one[0]: 1, one[1]: 2}, deep(50), ((0, 1, 2), None),
         )
         for value in wrong:

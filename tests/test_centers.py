@@ -149,7 +149,8 @@ class Depths(Checked):
         self.assertEqual(least_beyond(points, p, [(u, v)]), count)
 
     def test_depth(self):
-        for p, told in (((1, 1, 1), 2), ((0, 0, 1), 1), ((1, 0, 1), 1), ((1, 1, 2), 1), ((3, 1, 1), 0), ((-1, 0, 1), 0)):
+        deep_ones = {(1, 1, 1): 2, (0, 0, 1): 1, (1, 0, 1): 1, (1, 1, 2): 1, (3, 1, 1): 0, (-1, 0, 1): 0}
+        for p, told in deep_ones.items():
             self.assertEqual(depth(SQUARE, p)[0], told)
             self.holds(SQUARE, p, depth(SQUARE, p))
         inside = SQUARE + plain((1, 1))

@@ -75,8 +75,8 @@ class Configs(Solid):
     def test_bad_indexes(self):
         wrong = STRANGE + (
             (0, 1, 1), (0, 1, 0), (0, 1, 4), (-1, 0, 1), [0, 1, 2], "012", (0, 1), (0, 1, 2, 3), (False, 1, 2),
-            (0, True, 2), (0, 1, "2"), (0, 1, None), (0, 1, (2,)), (0, 1, [2]), ((0, 1, 2),), deep(50), {0: 1, 1: 2, 2: 0},
-            (0, 1, 10 ** 30),
+            (0, True, 2), (0, 1, "2"), (0, 1, None), (0, 1, (2,)), (0, 1, [2]), ((0, 1, 2),), deep(50),
+            (0, 1, 10 ** 30), {0: 1, 1: 2, 2: 0},
         )
         for call in (orientation, content):
             for value in wrong:

@@ -37,7 +37,8 @@ class Exact(Checked):
             self.assertIs(are_indexes(value, 5), False)
 
     def test_common_divisors(self):
-        self.assertEqual([common_divisor(row) for row in ((), (0, 0), (0, -4), (6, -9, 0), (6, 10, 15))], [0, 0, 4, 3, 1])
+        rows = ((), (0, 0), (0, -4), (6, -9, 0), (6, 10, 15))
+        self.assertEqual([common_divisor(row) for row in rows], [0, 0, 4, 3, 1])
         self.assertEqual(reduced((6, -9, 0)), [2, -3, 0])
         self.assertEqual([reduced(()), reduced([0, 0]), reduced((-4,)), reduced((5, 3))], [[], [0, 0], [-1], [5, 3]])
 

@@ -15,16 +15,14 @@ ALL = tuple(pairs_of(4))
 
 
 def rank(table):
-    table = [[Fraction(number) for number in row] for row in table]
     count = 0
-    for place in range(len(table[0]) if table else 0):
-        for row in table[count:]:
-            if row[place] != 0:
-                table.remove(row)
-                rest = [[one - two * other[place] / row[place] for one, two in zip(other, row)] for other in table[count:]]
-                table = table[:count] + [row] + rest
-                count += 1
-                break
+    while table:
+        row, *rest = table
+        place = next((k for k, number in enumerate(row) if number), None)
+        if place is not None:
+            count += 1
+            rest = [[one - two * Fraction(other[place]) / row[place] for one, two in zip(other, row)] for other in rest]
+        table = rest
     return count
 
 
@@ -222,7 +220,8 @@ class Openings(Checked):
 
     def test_at_each_edge_of_the_hull(self):
         rows = seeded(87)
-        for many, size, most in ((2, 5, 3), (4, 9, 3), (5, 9, 1), (7, 9, 2), (9, 20, 1), (12, 30, 1), (5, LIMIT, LIMIT)):
+        sizes = ((2, 5, 3), (4, 9, 3), (5, 9, 1), (7, 9, 2), (9, 20, 1), (12, 30, 1), (5, LIMIT, LIMIT))
+        for many, size, most in sizes:
             points = some_general(rows, many, size, most)
             edges = completed(points, ())
             for edge in hull_edges(points):
