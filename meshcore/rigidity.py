@@ -1,4 +1,4 @@
-"""Stresses of edge sets, Laman's counts, and how pseudo-triangulations open."""
+"""Stresses of edge sets, Laman's counts, velocities at which pseudo-triangulations spread."""
 
 from itertools import combinations
 
