@@ -1,8 +1,10 @@
 """Circles through three points."""
 
-from meshcore.errors import Collinear
+from itertools import combinations
+
+from meshcore.errors import Collinear, NotGeneric
 from meshcore.exact import sign
-from meshcore.points import check_each, gap2, lowest
+from meshcore.points import check_each, gap2, lowest, way
 from meshcore.turns import cross_row, determinant, orient
 
 
@@ -35,6 +37,31 @@ def center_of(a, b, c):
     return lowest(x, y, w)
 
 
+def span2(a, b, c):
+    """What radius2 tells, for points of any size that are not on a line."""
+    return gap2(center_of(a, b, c), a)
+
+
+def disk_side(a, b, p):
+    """1 if p lies inside the circle that has the segment from a to b as diameter, 0 if on it, otherwise -1."""
+    x, y = way(p, a)
+    u, v = way(p, b)
+    return -sign(x * u + y * v)
+
+
+def points_inside(points, triple):
+    """The indexes of the points inside the circle through three points that are not on a line."""
+    a, b, c = [points[k] for k in triple]
+    return [k for k, p in enumerate(points) if in_circle(a, b, c, p) > 0]
+
+
+def check_round(points):
+    """The error for points, no three on a line, of which four lie on a circle."""
+    for a, b, c, d in combinations(list(points), 4):
+        if in_circle(a, b, c, d) == 0:
+            raise NotGeneric()
+
+
 def check_circle(a, b, c):
     check_each((a, b, c))
     if orient(a, b, c) == 0:
@@ -57,4 +84,4 @@ def circumcenter(a, b, c):
 def radius2(a, b, c):
     """The square of the radius of the circle through three points."""
     check_circle(a, b, c)
-    return gap2(center_of(a, b, c), a)
+    return span2(a, b, c)

@@ -1,6 +1,6 @@
 """Delaunay triangulations and measures of triangulations."""
 
-from meshcore.circles import center_of, in_circle
+from meshcore.circles import in_circle, span2
 from meshcore.errors import BadHeights
 from meshcore.exact import by_value, is_less, is_whole, plus, ratio, times
 from meshcore.points import gap2
@@ -76,7 +76,7 @@ def cap(points, triangle):
         if one[0] <= 0:
             return times(gap2(points[i], points[j]), (1, 4))
     a, b, c = [points[k] for k in triangle]
-    return gap2(center_of(a, b, c), a)
+    return span2(a, b, c)
 
 
 def largest_cap(points, triangles):

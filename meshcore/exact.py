@@ -89,3 +89,8 @@ def by_value(ratios):
         common = lcm(common, one[1])
     rows = sorted([(one[0] * (common // one[1]), one) for one in ratios])
     return [row[1] for row in rows]
+
+
+def places_of(ratios):
+    """A dict of the ratios, each with a number that is greater for greater ratios."""
+    return {one: place for place, one in enumerate(by_value(ratios))}

@@ -5,7 +5,7 @@ from itertools import combinations
 from meshcore.errors import BadEdges, TooFew, TooMany
 from meshcore.exact import is_ascending
 from meshcore.points import check_list
-from meshcore.turns import check_general, turn_table
+from meshcore.turns import check_general, edges_cross, turn_table
 
 MOST_POINTS = 12
 
@@ -34,15 +34,6 @@ def check_edge_set(points, edges):
     check_few(points)
     check_edges(edges, len(points))
     return turn_table(points)
-
-
-def edges_cross(table, one, other):
-    """Whether two edges cross, for points with a table of their turns."""
-    i, j = one
-    k, m = other
-    if i in other or j in other:
-        return False
-    return table[i, j, k] != table[i, j, m] and table[k, m, i] != table[k, m, j]
 
 
 def least_crossing(table, edges):

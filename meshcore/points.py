@@ -73,6 +73,11 @@ def gap2(a, b):
     return ratio(x * x + y * y, w * w)
 
 
+def middle(a, b):
+    """The point halfway from a to b."""
+    return lowest(a[0] * b[2] + b[0] * a[2], a[1] * b[2] + b[1] * a[2], 2 * a[2] * b[2])
+
+
 def on_grid(points):
     """A number above 0, and the coordinates of all points times this number: integers."""
     common = 1

@@ -4,9 +4,9 @@ from itertools import combinations
 
 from meshcore.errors import BadEdge, NotPointed, NotPseudo
 from meshcore.exact import is_ascending
-from meshcore.pointed import check_edge_set, check_few, edges_cross, ends_at, is_plane_pointed, is_pointed_at
+from meshcore.pointed import check_edge_set, check_few, ends_at, is_plane_pointed, is_pointed_at
 from meshcore.polygons import doubled_area
-from meshcore.turns import turn_table
+from meshcore.turns import edges_cross, turn_table
 from meshcore.walks import reached
 
 MOST_SETS = 2000

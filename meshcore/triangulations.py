@@ -7,7 +7,7 @@ from meshcore.errors import BadEdge, Flat, NotTriangulation, TooFew, TooMany
 from meshcore.exact import is_ascending, plus
 from meshcore.hulls import hull_indexes
 from meshcore.points import check_list
-from meshcore.turns import doubled, orient, turn_table
+from meshcore.turns import doubled, edges_cross, orient, turn_table
 from meshcore.walks import reached
 
 MOST_POINTS = 20
@@ -145,6 +145,15 @@ def check_mesh(points, triangles):
     return table
 
 
+def is_cut(table, triangle, edges):
+    """Whether one of the edges crosses a side of a triangle."""
+    for side, _ in sides_with_rest(triangle):
+        for edge in edges:
+            if edges_cross(table, side, edge):
+                return True
+    return False
+
+
 def is_free(table, many, triangle, chosen):
     """Whether a triangle may stand beside the chosen ones."""
     if table[triangle] == 0 or point_inside(table, many, triangle) is not None:
@@ -155,12 +164,14 @@ def is_free(table, many, triangle, chosen):
     return True
 
 
-def first_mesh(table, many):
-    """The triangulation that takes each triangle that it can take, in ascending order."""
-    # triangles without inner points that do not overlap can always be completed
+def first_mesh(table, many, kept=()):
+    """The triangulation that takes each triangle that it can take, in ascending order.
+
+    It has the edges that are to be kept as sides."""
+    # triangles without inner points that neither overlap nor are cut can always be completed
     chosen = []
     for triangle in combinations(range(many), 3):
-        if is_free(table, many, triangle, chosen):
+        if is_free(table, many, triangle, chosen) and not is_cut(table, triangle, kept):
             chosen.append(triangle)
     return tuple(chosen)
 
@@ -249,23 +260,25 @@ def is_unsettled(points, edge, rest):
     return inside > 0
 
 
-def unsettled_edge(points, triangles):
+def unsettled_edge(points, triangles, kept):
     for edge, rest in inner_edges(triangles):
-        if is_unsettled(points, edge, rest):
+        if edge not in kept and is_unsettled(points, edge, rest):
             return (edge, rest)
     return None
 
 
-def settled(points, triangles):
-    """The same triangulation for all given ones, and the flips to it as pairs (gone, come)."""
+def settled(points, triangles, kept=()):
+    """The same triangulation for all given ones, and the flips to it as pairs (gone, come).
+
+    Edges that are to be kept are not flipped."""
     # an edge that is gone never comes back: there are at most n * (n - 1) / 2 flips
     steps = []
-    found = unsettled_edge(points, triangles)
+    found = unsettled_edge(points, triangles, kept)
     while found is not None:
         edge, rest = found
         triangles = after_flip(triangles, edge, rest)
         steps.append((edge, tuple(sorted(rest))))
-        found = unsettled_edge(points, triangles)
+        found = unsettled_edge(points, triangles, kept)
     return (triangles, steps)
 
 

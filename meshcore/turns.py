@@ -58,6 +58,15 @@ def turn_table(points):
     return in_all_orders(len(points), triple_turns(points))
 
 
+def edges_cross(table, one, other):
+    """Whether two edges cross, for points with a table of their turns."""
+    i, j = one
+    k, m = other
+    if i in other or j in other:
+        return False
+    return table[i, j, k] * table[i, j, m] < 0 and table[k, m, i] * table[k, m, j] < 0
+
+
 def check_general(points):
     if 0 in triple_turns(points):
         raise NotGeneral()

@@ -226,4 +226,4 @@ class Checked(unittest.TestCase):
         self.raised(BadEdges, call, points, ((),), *rest, index=0)
         self.raised(BadEdges, call, points, ((0, 2), (0, 1)), *rest, index=1)
         self.raised(BadEdges, call, points, ((0, 2), (0, 2), 5), *rest, index=1)
-        self.raised(BadEdges, call, points[:2], ((0, 1), (0, 2)), *rest, index=1)
+        self.raised(BadEdges, call, points[:3], ((0, 1), (0, 3)), *rest, index=1)

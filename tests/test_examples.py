@@ -1,14 +1,18 @@
 """The examples of the interface, word by word."""
 
+from meshcore.bars import alive, bars
 from meshcore.centers import depth, shows_common
 from meshcore.circles import circle_side, circumcenter, radius2
 from meshcore.circuits import dependency, radon_parts
+from meshcore.constrained import constrained, respects, seen_in_circles
 from meshcore.covers import all_covers, flips, placing
 from meshcore.delaunay import angle_row, delaunay, illegal_edges, largest_cap
 from meshcore.duality import above, dual_of_line, dual_of_point, level_corners
 from meshcore.edgecounts import crossing_count, halving_pairs, left_counts, separable
-from meshcore.errors import TooFew
+from meshcore.errors import BadConstraints, TooFew
+from meshcore.growing import births, hole_count, part_count
 from meshcore.hulls import hull, locate_in_hull
+from meshcore.nearest import average_of, cell_corners, circle_counts, nearest, nearest_choices
 from meshcore.pointed import crossing_edges, unpointed
 from meshcore.points import compare, distance2, point, ranked
 from meshcore.polygons import area, lattice_counts, polygon_flaw, side
@@ -17,6 +21,7 @@ from meshcore.regular import folds, regularity, shares
 from meshcore.rigidity import laman_flaw, opening
 from meshcore.segments import crosses, meeting
 from meshcore.signs import contradiction, realized, signs_of
+from meshcore.trees import spanning_tree
 from meshcore.triangulations import all_triangulations, flip, flippable, triangulation_flaw
 from tests.helpers import Checked
 
@@ -123,3 +128,34 @@ class Examples(Checked):
         one = ((0, 1, 2), (0, 2, 3))
         found = [shares(square, one), folds(square, one), regularity(square, one)[0]]
         self.assertEqual(found, [((12, 1), (6, 1), (12, 1), (6, 1)), (((0, 1, 2, 3), (-1, 1, -1, 1)),), 'heights'])
+
+    def test_growing(self):
+        points = ((0, 0, 1), (4, 1, 1), (1, 3, 1))
+        found = [births(points)[3:], part_count(points, (3, 1)), hole_count(points, (9, 2))]
+        told = (((5, 2), (0, 2)), ((13, 4), (1, 2)), ((17, 4), (0, 1)), ((1105, 242), (0, 1, 2)))
+        self.assertEqual(found, [told, 2, 1])
+
+    def test_bars(self):
+        points = ((0, 0, 1), (4, 1, 1), (1, 3, 1))
+        found = [bars(points), alive(bars(points)[1], (9, 2)), spanning_tree(points)]
+        parts = (((0, 1), (5, 2)), ((0, 1), (13, 4)), ((0, 1), None))
+        self.assertEqual(found, [(parts, (((17, 4), (1105, 242)),)), 1, ((0, 2), (1, 2))])
+
+    def test_nearest(self):
+        points = ((0, 0, 1), (4, 0, 1), (0, 2, 1))
+        found = [nearest_choices(points, 2), circle_counts(points), cell_corners(points, (1,)),
+                 nearest(points, (2, 0, 1), 2), average_of(points, (0, 1))]
+        told = [((0, 1), (0, 2), (1, 2)), (1,), ((2, 1, 1),), (0, 1), ((2, 0, 1), (4, 1))]
+        self.assertEqual(found, told)
+
+    def test_constrained(self):
+        kite = ((0, 0, 1), (4, 0, 1), (5, 5, 1), (0, 4, 1))
+        one = ((0, 1, 2), (0, 2, 3))
+        found = [constrained(kite, ((0, 2),)), respects(kite, ((0, 2),), one), respects(kite, (), one),
+                 seen_in_circles(kite, (), one)]
+        self.assertEqual(found, [((0, 1, 2), (0, 2, 3)), True, False, ((0, 3), (1, 1))])
+
+    def test_constraints_that_cross(self):
+        with self.assertRaises(BadConstraints) as caught:
+            constrained(((0, 0, 1), (4, 0, 1), (4, 4, 1), (0, 4, 1)), ((0, 2), (1, 3)))
+        self.assertEqual((caught.exception.first, caught.exception.second), (0, 1))

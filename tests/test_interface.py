@@ -48,6 +48,20 @@ INTERFACE = {
         "shares(config, cover)", "folds(config, cover)", "regularity(config, cover)",
         "shows_regularity(config, cover, value)",
     ),
+    "growing": (
+        "births(points)", "complex_at(points, r)", "part_count(points, r)", "hole_count(points, r)",
+        "ranks_at(points, r)",
+    ),
+    "bars": ("bars(points)", "alive(bars, r)"),
+    "trees": ("spanning_tree(points)", "nested_graphs(points)"),
+    "nearest": (
+        "nearest_choices(points, k)", "holding(points, some)", "shows_holding(points, some, value)",
+        "circle_counts(points)", "cell_corners(points, some)", "nearest(points, q, k)", "average_of(points, some)",
+    ),
+    "constrained": (
+        "constrained(points, constraints)", "respects(points, constraints, triangles)",
+        "seen_in_circles(points, constraints, triangles)",
+    ),
 }
 
 

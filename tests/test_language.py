@@ -205,7 +205,7 @@ class Language(unittest.TestCase):
             for function in [node for node in ast.walk(tree) if isinstance(node, ast.FunctionDef)]:
                 ranges = [node.target.id for node in ast.walk(function) if isinstance(node, ast.For)
                           and isinstance(node.iter, ast.Call) and ast.unparse(node.iter.func) == "range"]
-                plain = "|".join([r"\d+", r"len\(.*\)", r"len\(.*\) \+ \d+"] + ranges)
+                plain = "|".join([r"\d+", r"int\(\w+\)", r"len\(.*\)", r"len\(.*\) \+ \d+"] + ranges)
                 for node in ast.walk(function):
                     if isinstance(node, ast.Call) and ast.unparse(node.func) in ("combinations", "permutations"):
                         for one in node.args[1:]:
