@@ -141,7 +141,8 @@ class CheckedPolygons(Checked):
         self.bad_polygon(call, ())
         self.bad_polygon(call, None)
         for value in STRANGE + (((0, 2), (1, 3)), ((0, 1),), ((1, 2),), ((2, 0),), [(0, 2)], ((0, 2), (0, 2)), deep(50),
-                                ((0, 4),), ((0, 3),), ((0, True),), ((False, 2),), ("02",), ((0, 2, 3),), ((0, 2), 5), {(0, 2): 1},
+                                ((0, 4),), ((0, 3),), ((0, True),), ((False, 2),), ("02",), ((0, 2, 3),), ((0, 2), 5),
+                                {(0, 2): 1},
                                 ([0, 2],), ((-2, 0),), (((0,), 2),), ((None, 2),), ((10 ** 30, 2),)):
             with self.subTest(value=value):
                 self.raised(NotCutting, call, SQUARE, value)
@@ -211,7 +212,8 @@ class Cuttings(CheckedPolygons):
 
     def test_is_cutting_of_any_value(self):
         self.assertIs(is_cutting(TRIANGLE, ()), True)
-        for value in STRANGE + (((0, 2), (1, 3)), ((0, 1),), [(0, 2)], ((2, 0),), ((0, 2), (0, 2)), ("02",), ((False, 2),),
+        for value in STRANGE + (((0, 2), (1, 3)), ((0, 1),), [(0, 2)], ((2, 0),), ((0, 2), (0, 2)), ("02",),
+                                ((False, 2),),
                                 ((0, 2), 5), (5, (0, 2)), ((0, 2), None), ((0, 4),), {(0, 2): 1}, ([0, 2],), deep(50)):
             with self.subTest(value=value):
                 self.assertIs(is_cutting(SQUARE, value), False)
@@ -299,7 +301,8 @@ class Pieces(CheckedPolygons):
                 self.assertIs(are_pieces(polygon, value), are_convex_pieces(polygon, value))
 
     def test_any_value(self):
-        for value in STRANGE + (((0, 2), (1, 3)), ((0, 1),), [(0, 2)], ((2, 0),), ((0, 2), (0, 2)), ("02",), ((False, 2),),
+        for value in STRANGE + (((0, 2), (1, 3)), ((0, 1),), [(0, 2)], ((2, 0),), ((0, 2), (0, 2)), ("02",),
+                                ((False, 2),),
                                 ((0, 2), 5), (5, (0, 2)), ((0, 4),), {(0, 2): 1}, ([0, 2],), deep(50), ((None, 2),)):
             if value != ():
                 with self.subTest(value=value):

@@ -1,15 +1,18 @@
 """The examples of the interface, word by word."""
 
+from meshcore.barriers import connection, free_cells, inner_clusters, region_count, shortest
 from meshcore.bars import alive, bars
+from meshcore.boxes import is_free, shows_way
 from meshcore.centers import depth, shows_common
 from meshcore.circles import circle_side, circumcenter, radius2
 from meshcore.circuits import dependency, radon_parts
 from meshcore.constrained import constrained, respects, seen_in_circles
 from meshcore.covers import all_covers, flips, placing
+from meshcore.cuttings import cutting_count, diagonals, fewest_pieces, tree_of
 from meshcore.delaunay import angle_row, delaunay, illegal_edges, largest_cap
 from meshcore.duality import above, dual_of_line, dual_of_point, level_corners
 from meshcore.edgecounts import crossing_count, halving_pairs, left_counts, separable
-from meshcore.errors import BadConstraints, TooFew
+from meshcore.errors import BadConstraints, BadText, TooFew, TooMany
 from meshcore.growing import births, hole_count, part_count
 from meshcore.hulls import hull, locate_in_hull
 from meshcore.nearest import average_of, cell_corners, circle_counts, nearest, nearest_choices
@@ -17,10 +20,12 @@ from meshcore.pointed import crossing_edges, unpointed
 from meshcore.points import compare, distance2, point, ranked
 from meshcore.polygons import area, lattice_counts, polygon_flaw, side
 from meshcore.pseudo import all_pseudo, partner, pseudo_triangles
+from meshcore.refining import conforming
 from meshcore.regular import folds, regularity, shares
 from meshcore.rigidity import laman_flaw, opening
 from meshcore.segments import crosses, meeting
 from meshcore.signs import contradiction, realized, signs_of
+from meshcore.texts import read_mesh, write_mesh
 from meshcore.trees import spanning_tree
 from meshcore.triangulations import all_triangulations, flip, flippable, triangulation_flaw
 from tests.helpers import Checked
@@ -159,3 +164,40 @@ class Examples(Checked):
         with self.assertRaises(BadConstraints) as caught:
             constrained(((0, 0, 1), (4, 0, 1), (4, 4, 1), (0, 4, 1)), ((0, 2), (1, 3)))
         self.assertEqual((caught.exception.first, caught.exception.second), (0, 1))
+
+    def test_refining(self):
+        found = conforming(((0, 0, 1), (8, 0, 1), (4, 1, 1)), ((0, 1),), 1)
+        self.assertEqual(found, (((0, 0, 1), (8, 0, 1), (4, 1, 1), (4, 0, 1)), ((0, 3), (1, 3))))
+
+    def test_refining_with_too_many(self):
+        with self.assertRaises(TooMany) as caught:
+            conforming(((0, 0, 1), (8, 0, 1), (4, 1, 1)), ((0, 1),), 0)
+        self.assertEqual(caught.exception.most, 0)
+
+    def test_cuttings(self):
+        dart = ((0, 0, 1), (4, 1, 1), (8, 0, 1), (4, 6, 1))
+        square = ((0, 0, 1), (4, 0, 1), (4, 4, 1), (0, 4, 1))
+        found = [diagonals(dart), fewest_pieces(dart), cutting_count(square), tree_of(square, ((0, 2),))]
+        self.assertEqual(found, [((1, 3),), ((1, 3),), 2, (((0, 1, 2), (0, 2, 3)),)])
+
+    def test_boxes(self):
+        world = ((0, 0, 9, 7), (), (2, 1))
+        found = [is_free(world, (7, 6)), is_free(world, (8, 6)),
+                 shows_way(world, (0, 0), (7, 6), ((0, 0), (7, 0), (7, 6)))]
+        self.assertEqual(found, [True, False, True])
+
+    def test_barriers(self):
+        world = ((0, 0, 9, 7), ((4, 0, 5, 7),), (1, 1))
+        found = [region_count(world), free_cells(world), inner_clusters(world), shortest(world, (0, 0), (3, 6)),
+                 connection(world, (0, 0), (8, 0))[0]]
+        self.assertEqual(found, [2, (8, 8, 2), 0, 9, 'barrier'])
+
+    def test_texts(self):
+        points = ((0, 0, 1), (1, 0, 2), (0, -3, 1))
+        found = [write_mesh(points, ((0, 1, 2),)), read_mesh('0 0\n1/2 0\n0 -3\n-\n0 1 2\n') == (points, ((0, 1, 2),))]
+        self.assertEqual(found, ['0 0\n1/2 0\n0 -3\n-\n0 1 2\n', True])
+
+    def test_texts_that_are_wrong(self):
+        with self.assertRaises(BadText) as caught:
+            read_mesh('0 0\n1 x\n')
+        self.assertEqual(caught.exception.line, 1)

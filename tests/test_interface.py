@@ -62,6 +62,17 @@ INTERFACE = {
         "constrained(points, constraints)", "respects(points, constraints, triangles)",
         "seen_in_circles(points, constraints, triangles)",
     ),
+    "refining": ("conforming(points, constraints, most)", "refined(points, constraints, bound, most)"),
+    "cuttings": (
+        "diagonals(polygon)", "cutting(polygon)", "is_cutting(polygon, value)", "cutting_count(polygon)",
+        "ears(polygon, value)", "tree_of(polygon, value)", "are_pieces(polygon, value)", "fewest_pieces(polygon)",
+    ),
+    "boxes": ("is_free(world, place)", "shows_way(world, start, goal, value)"),
+    "barriers": (
+        "connection(world, start, goal)", "shows_barrier(world, start, goal, value)", "shortest(world, start, goal)",
+        "region_count(world)", "free_cells(world)", "inner_clusters(world)",
+    ),
+    "texts": ("write_mesh(points, triangles)", "read_mesh(text)"),
 }
 
 
