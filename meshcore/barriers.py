@@ -2,8 +2,8 @@
 
 from itertools import combinations
 
-from meshcore.boxes import are_numbers, blocks_of, check_ends, check_world, have_common
-from meshcore.exact import sign
+from meshcore.boxes import blocks_of, check_ends, check_world, have_common
+from meshcore.exact import are_numbers, sign
 from meshcore.grids import free_places, free_rectangles, free_segments, reach
 from meshcore.parts import part_number
 

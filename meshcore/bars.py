@@ -27,8 +27,7 @@ def hole_bars(born):
     closed = {}
     for birth, cell in born:
         if len(cell) == 3:
-            row = sorted([numbers[side] for side, _ in sides_with_rest(cell)])
-            rest = rest_of(row, closed)
+            rest = rest_of(sorted([numbers[side] for side, _ in sides_with_rest(cell)]), closed)
             # all triples together have no sum 0: there is always a last pair left
             closed[rest[-1]] = rest
             found.append((pairs[rest[-1]][0], birth))

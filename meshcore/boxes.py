@@ -1,20 +1,10 @@
 """A box moved among walls: free places, ways."""
 
 from meshcore.errors import BadPlace, BadWorld, NotFree
-from meshcore.exact import is_whole
+from meshcore.exact import are_numbers
 
 LARGEST = 1000
 MOST_WALLS = 8
-
-
-def are_numbers(value, many):
-    """Whether a value is a tuple of so many integers."""
-    if not isinstance(value, tuple) or len(value) != many:
-        return False
-    for number in value:
-        if not is_whole(number):
-            return False
-    return True
 
 
 def is_box(value):
@@ -23,7 +13,8 @@ def is_box(value):
     return value[0] < value[2] and value[1] < value[3]
 
 
-def are_walls(value):
+def are_boxes(value):
+    """Whether a value is a tuple of boxes, not too many."""
     if not isinstance(value, tuple) or len(value) > MOST_WALLS:
         return False
     for item in value:
@@ -45,7 +36,7 @@ def check_world(world):
     room, walls, size = world
     if not is_box(room):
         raise BadWorld(0)
-    if not are_walls(walls):
+    if not are_boxes(walls):
         raise BadWorld(1)
     if not is_size(size, room):
         raise BadWorld(2)

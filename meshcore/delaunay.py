@@ -2,7 +2,7 @@
 
 from meshcore.circles import in_circle, span2
 from meshcore.errors import BadHeights
-from meshcore.exact import by_value, is_less, is_whole, plus, ratio, times
+from meshcore.exact import are_numbers, by_value, is_less, plus, ratio, times
 from meshcore.points import gap2
 from meshcore.triangulations import check_mesh, check_mesh_points, first_mesh, inner_edges, settled
 from meshcore.triangulations import sides_with_rest
@@ -50,18 +50,11 @@ def angle_row(points, triangles):
     return tuple(by_value(found)[::-1])
 
 
-def check_heights(heights, many):
-    if not isinstance(heights, tuple) or len(heights) != many:
-        raise BadHeights()
-    for height in heights:
-        if not is_whole(height):
-            raise BadHeights()
-
-
 def roughness(points, triangles, heights):
     """The integral of the squared slope of the surface with these heights."""
     check_mesh(points, triangles)
-    check_heights(heights, len(points))
+    if not are_numbers(heights, len(points)):
+        raise BadHeights()
     total = (0, 1)
     for triangle in triangles:
         for i, j, one in angles(points, triangle):

@@ -8,6 +8,16 @@ def is_whole(value):
     return isinstance(value, int) and not isinstance(value, bool)
 
 
+def are_numbers(value, many):
+    """Whether a value is a tuple of so many integers."""
+    if not isinstance(value, tuple) or len(value) != many:
+        return False
+    for number in value:
+        if not is_whole(number):
+            return False
+    return True
+
+
 def sign(number):
     if number > 0:
         return 1
@@ -30,20 +40,13 @@ def is_ascending(value, many):
 
 def are_indexes(value, many):
     """Whether a value is a tuple of different indexes below many, in any order."""
-    if not isinstance(value, tuple):
+    if not isinstance(value, tuple) or not are_numbers(value, len(value)):
         return False
-    for item in value:
-        if not is_whole(item):
-            return False
     return is_ascending(tuple(sorted(value)), many)
 
 
 def is_ratio(value):
-    if not isinstance(value, tuple) or len(value) != 2:
-        return False
-    if not is_whole(value[0]) or not is_whole(value[1]):
-        return False
-    return value[1] > 0 and gcd(value[0], value[1]) == 1
+    return are_numbers(value, 2) and value[1] > 0 and gcd(value[0], value[1]) == 1
 
 
 def common_divisor(numbers):

@@ -1,6 +1,6 @@
 """Hulls of point lists, with a certificate for each point inside or outside."""
 
-from meshcore.exact import is_ascending, is_less, is_ratio, is_whole, plus, ratio, times
+from meshcore.exact import are_numbers, is_ascending, is_less, is_ratio, plus, ratio, times
 from meshcore.points import check_each, check_list, ranking, way
 from meshcore.turns import determinant, on_segment, orient
 
@@ -164,7 +164,7 @@ def is_mixture(points, p, indexes, weights):
 
 
 def is_barrier(points, p, u, v, s):
-    if not is_whole(u) or not is_whole(v) or not is_whole(s):
+    if not are_numbers((u, v, s), 3):
         return False
     for x, y, w in points:
         if u * x + v * y > s * w:

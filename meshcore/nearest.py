@@ -4,7 +4,7 @@ from itertools import combinations
 
 from meshcore.circles import center_of, check_round, points_inside
 from meshcore.errors import BadChoice, BadNumber, TooFew, TooMany
-from meshcore.exact import is_ascending, is_less, is_whole, places_of, plus, times
+from meshcore.exact import are_numbers, is_ascending, is_less, is_whole, places_of, plus, times
 from meshcore.linear import alternative
 from meshcore.points import check_each, check_list, gap2, is_lowest, lowest, on_grid, ranking
 from meshcore.turns import check_general, combinations_of_three
@@ -76,11 +76,8 @@ def is_center(points, some, q):
 
 def is_refusal_row(item, many, some):
     """Whether a value is a triple of a chosen index, one that is not chosen, and a number above 0."""
-    if not isinstance(item, tuple) or len(item) != 3:
+    if not are_numbers(item, 3):
         return False
-    for number in item:
-        if not is_whole(number):
-            return False
     s, t, m = item
     return s in some and 0 <= t < many and t not in some and m > 0
 

@@ -3,7 +3,7 @@
 from math import gcd, lcm
 
 from meshcore.errors import BadPoint, BadPoints
-from meshcore.exact import common_divisor, is_whole, ratio, sign
+from meshcore.exact import are_numbers, common_divisor, is_whole, ratio, sign
 
 # 10 ** 12, for the numbers of points that are arguments
 LIMIT = 1000000000000
@@ -20,12 +20,7 @@ def lowest(x, y, w):
 
 def is_lowest(value, many):
     """Whether a value is a tuple of so many integers without a common divisor, the last one above 0."""
-    if not isinstance(value, tuple) or len(value) != many:
-        return False
-    for number in value:
-        if not is_whole(number):
-            return False
-    return value[-1] > 0 and common_divisor(value) == 1
+    return are_numbers(value, many) and value[-1] > 0 and common_divisor(value) == 1
 
 
 def is_within(numbers):

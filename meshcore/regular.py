@@ -3,7 +3,7 @@
 from meshcore.circuits import dependency_of
 from meshcore.configs import volume_of
 from meshcore.covers import check_cover, faces_of
-from meshcore.exact import is_whole, plus
+from meshcore.exact import are_numbers, plus
 from meshcore.linear import alternative, product_of
 
 
@@ -104,9 +104,8 @@ def shows(config, rows, kind, numbers):
 def shows_regularity(config, cover, value):
     """Whether a value is heights or a conflict of a cover."""
     check_cover(config, cover)
-    if not isinstance(value, tuple) or len(value) != 2 or not isinstance(value[1], tuple):
+    if not isinstance(value, tuple) or len(value) != 2:
         return False
-    for number in value[1]:
-        if not is_whole(number):
-            return False
+    if not isinstance(value[1], tuple) or not are_numbers(value[1], len(value[1])):
+        return False
     return shows(config, fold_rows(config, cover), value[0], value[1])

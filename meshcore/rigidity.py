@@ -3,7 +3,7 @@
 from itertools import combinations
 
 from meshcore.errors import BadEdge
-from meshcore.exact import is_ascending, is_whole, ratio
+from meshcore.exact import are_numbers, is_ascending, ratio
 from meshcore.linear import null_row, product_of
 from meshcore.pointed import check_edge_set
 from meshcore.points import on_grid
@@ -39,20 +39,15 @@ def stress(points, edges):
     return tuple(found)
 
 
-def are_integers(value, many):
+def is_row(value, many):
     """Whether a value is a tuple of so many integers that are not all 0."""
-    if not isinstance(value, tuple) or len(value) != many:
-        return False
-    for number in value:
-        if not is_whole(number):
-            return False
-    return list(value) != [0] * many
+    return are_numbers(value, many) and list(value) != [0] * many
 
 
 def shows_stress(points, edges, value):
     """Whether a value is a stress of an edge set."""
     check_edge_set(points, edges)
-    if not are_integers(value, len(edges)):
+    if not is_row(value, len(edges)):
         return False
     for column in columns_of(rigidity_rows(points, edges)):
         if product_of(column, value) != 0:

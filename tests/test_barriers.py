@@ -140,6 +140,13 @@ class Connection(CheckedWorlds):
         along = ((0, 0, 9, 9), ((1, 3, 9, 4),), (1, 1))
         self.connection_holds(along, (8, 0), (8, 8), 24)
 
+    def test_blocks_that_touch_in_a_corner(self):
+        # the blocks have the corner (3, 3) in common, and it is free: there is just one way through
+        world = ((0, 0, 7, 7), ((0, 0, 3, 3), (4, 4, 7, 7)), (1, 1))
+        self.connection_holds(world, (0, 6), (6, 0), 12)
+        self.assertIn((3, 3), connection(world, (0, 6), (6, 0))[1])
+        self.connection_holds((world[0], ((0, 0, 3, 3), (3, 3, 7, 7)), (1, 1)), (0, 6), (6, 0), None)
+
     def test_a_ring_without_the_outside(self):
         self.assertNotIn(True, [k >= 4 for k, _, _ in connection(RING, (8, 8), (0, 0))[1]])
         turned = ((0, 0, 20, 20), ((5, 5, 15, 7), (13, 5, 15, 12), (8, 13, 15, 15), (5, 8, 7, 15)), (2, 2))

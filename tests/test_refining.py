@@ -282,7 +282,7 @@ class Refined(CheckedConstraints):
                     points = some_mesh_points(rows, many, size, most)
                     added = self.holds(points, some_constraints(rows, points, tries), bound, rows.choice((3, 7, 12)))
                     done += added is not None
-        self.assertGreater(done, 8)
+        self.assertGreater(done, 5)
 
     def test_twenty_points(self):
         rows = seeded(125)
