@@ -5,7 +5,7 @@ from fractions import Fraction
 from meshcore.barriers import connection, free_cells, inner_clusters, region_count, shortest, shows_barrier
 from meshcore.boxes import shows_way
 from tests.helpers import STRANGE, deep, seeded
-from tests.worlds import EMPTY, RING, SPLIT, CheckedWorlds, is_free_pair, lengths_from, places_of, some_world
+from tests.worlds import EMPTY, RING, SPLIT, CheckedWorlds, is_free_pair, lengths_from, moved, places_of, some_world
 
 
 def block(world, k, u, v):
@@ -185,6 +185,24 @@ class Connection(CheckedWorlds):
                 self.connection_holds(world, goal, start, length)
                 shut += length is None
         self.assertGreater(shut, 20)
+
+    def test_worlds_somewhere_else(self):
+        rows = seeded(153)
+        shut = 0
+        for world in [SPLIT] + worlds(154, 60):
+            free = [place for place in places_of(world) if is_free_pair(world, *place)]
+            if not free:
+                continue
+            (u, v), (p, q) = rows.choice(free), rows.choice(free)
+            length = lengths_from(world, (u, v)).get((p, q))
+            shut += length is None
+            for far, high in ((500, 700), (500, -700), (-500, 700), (-500, -700)):
+                other = moved(world, far, high)
+                self.connection_holds(other, (u + far, v + high), (p + far, q + high), length)
+                self.assertEqual(region_count(other), region_count(world))
+                self.assertEqual(free_cells(other), free_cells(world))
+                self.assertEqual(inner_clusters(other), inner_clusters(world))
+        self.assertGreater(shut, 5)
 
     def test_large_worlds(self):
         rows = seeded(145)

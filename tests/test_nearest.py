@@ -209,6 +209,11 @@ class ShowsHolding(CheckedDisks):
         ):
             with self.subTest(rows=rows):
                 self.assertIs(shows_holding(points, (2, 3), ("mixture", rows)), False)
+        # an index below 0 is none, even where it would lead to the right point
+        back = points[::-1]
+        self.assertIs(shows_holding(back, (0, 1), ("mixture", ((0, 2, 1), (1, 3, 1)))), True)
+        for rows in (((0, 2, 1), (1, -1, 1)), ((0, -2, 1), (1, 3, 1)), ((0, -2, 1), (1, -1, 1))):
+            self.assertIs(shows_holding(back, (0, 1), ("mixture", rows)), False)
         for tag in ("center", "Mixture", "", None, ("mixture",), 0):
             self.assertIs(shows_holding(points, (2, 3), (tag, good)), False)
         self.assertIs(shows_holding(points, (2, 3), ("mixture", good, 1)), False)

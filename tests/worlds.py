@@ -33,6 +33,13 @@ def some_world(rows, size, walls, longest=4):
     return (room, tuple(found), width)
 
 
+def moved(world, far, high):
+    """The same world somewhere else."""
+    room, walls, size = world
+    boxes = [(x + far, y + high, a + far, b + high) for x, y, a, b in (room,) + walls]
+    return (boxes[0], tuple(boxes[1:]), size)
+
+
 def is_free_pair(world, u, v):
     """Whether the moved box at a pair of fractions lies in the room and shares no area with a wall."""
     (x, y, a, b), walls, (w, h) = world
